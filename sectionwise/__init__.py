@@ -1,0 +1,1 @@
+"""Sectionwise: sections of arrays, and storage that is shared."""

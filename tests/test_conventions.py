@@ -1,0 +1,110 @@
+"""Promises 2 and 3: nothing passed in is changed, what is told is new, and arguments go by place or by name."""
+
+import copy
+import inspect
+import unittest
+
+from sectionwise import arguments, sections
+
+BOUNDS = ((1, 3), (0, 3))
+ROW = ("a", BOUNDS, ("section", ([1, 2, 3], [0, 1])), ((1, 2), (1, None)), ([1, 2], 1), ([2], [3, 1]))
+
+# Each function with its arguments by the names of the interface, in its order, and what it returns.
+CALLS = [
+    (sections.extents, {"bounds": BOUNDS}, (3, 4)),
+    (sections.element_at, {"bounds": BOUNDS, "place": 4}, (2, 1)),
+    (sections.place_of, {"bounds": BOUNDS, "element": (2, 1)}, 4),
+    (sections.shape, {"bounds": BOUNDS, "section": ([3, 1, 1], 2)}, (3,)),
+    (sections.count, {"bounds": BOUNDS, "section": ([3, 1, 1], [0, 2])}, 6),
+    (sections.is_once, {"bounds": BOUNDS, "section": ([3, 1, 1], [0, 2])}, False),
+    (sections.element_of, {"bounds": BOUNDS, "section": ([3, 1, 1], [0, 2]), "index": 3}, (3, 2)),
+    (sections.listed, {"bounds": BOUNDS, "section": ([3, 1], [0, 2])}, [2, 0, 8, 6]),
+    (sections.composed, {"bounds": BOUNDS, "section": ([3, 1], (0, 2, 2)), "inner": ([2, 2], [2])}, ([1, 1], [2])),
+    (sections.stretches, {"bounds": BOUNDS, "section": ([2, 3], [1, 0])}, 2),
+    (sections.is_contiguous, {"bounds": BOUNDS, "section": ([1, 2, 3], [1, 2])}, True),
+    (sections.shared, {"bounds": BOUNDS, "one": ([3, 2, 2], [1]), "other": ([2, 2], (0, 3, 1))}, (1, (2, 1))),
+    (sections.includes, {"bounds": BOUNDS, "one": ([3, 2], (1, 2, 1)), "other": ([2, 2], [2])}, True),
+    (sections.same_set, {"bounds": BOUNDS, "one": ([3, 2], [1]), "other": ([2, 2, 3], [1])}, True),
+    (sections.same_sequence, {"bounds": BOUNDS, "one": ([3, 2, 2], [1]), "other": ([3, 2], [1])}, False),
+    (arguments.handed, {"bounds": BOUNDS, "part": ("section", ([2, 3], [1]))}, (4, 2)),
+    (arguments.seated, {"bounds": BOUNDS, "part": ("from", (3, 1)), "dummy": ((1, 2), (1, None))}, (5, 7)),
+    (arguments.dummy_place,
+     {"bounds": BOUNDS, "part": ("section", ([2, 3], [1])), "dummy": ((7, None),), "element": (8,)}, 5),
+    (arguments.dummy_element,
+     {"bounds": BOUNDS, "part": ("section", ([2, 3], [1])), "dummy": ((7, None),), "place": 5}, (8,)),
+    (arguments.handed_on,
+     {"bounds": BOUNDS, "hands": [("whole", ((1, 9),)), (("section", ([4, 5],)), ((1, None),))]}, (3, 2)),
+    (arguments.call_clash, {"rows": [ROW, ("a", BOUNDS, "whole", ((1, 12),), None, ([2, 1],))]}, ("a", 0, 0, 1)),
+]
+
+
+class Conventions(unittest.TestCase):
+
+    def test_by_place_and_by_name(self):
+        for function, given, told in CALLS:
+            self.assertEqual(list(inspect.signature(function).parameters), list(given), function)
+            self.assertEqual(function(*given.values()), told, function)
+            self.assertEqual(function(**given), told, function)
+            self.assertEqual(function(**dict(reversed(list(given.items())))), told, function)
+            first, *others = given
+            self.assertEqual(function(given[first], **{name: given[name] for name in others}), told, function)
+
+    def test_kinds_of_what_is_told(self):
+        for function, given, told in CALLS:
+            made = function(**given)
+            self.assertIs(type(made), type(told), function)
+            if type(told) is tuple:
+                self.assertEqual([type(thing) for thing in made], [type(thing) for thing in told], function)
+
+    def test_nothing_passed_in_is_changed(self):
+        for function, given, told in CALLS:
+            before = copy.deepcopy(given)
+            function(**given)
+            self.assertEqual(repr(given), repr(before), function)
+
+    def test_nothing_wrong_passed_in_is_changed(self):
+        nested = [[1, [2]], {1: [2]}]
+        before = copy.deepcopy(nested)
+        for function, given, _ in CALLS:
+            for name in given:
+                for value in [nested, (nested,), ("section", nested), [("a", nested)], [nested]]:
+                    try:
+                        function(**{**given, name: value})
+                    except ArithmeticError:
+                        pass
+                    self.assertEqual(nested, before, (function, name))
+
+    def test_what_is_told_is_new_and_not_kept(self):
+        for function, given, told in CALLS:
+            first, second = function(**given), function(**given)
+            self.spoil(first)
+            self.assertEqual(second, told, function)
+            self.assertEqual(function(**given), told, function)
+            self.assertEqual(copy.deepcopy(given), given)
+
+    def spoil(self, thing):
+        if type(thing) is list:
+            thing.append("spoilt")
+        if type(thing) is tuple:
+            for part in thing:
+                self.spoil(part)
+
+    def test_the_lists_of_a_call_may_change_behind_it(self):
+        row = [1, 2]
+        told = sections.composed(((1, 3),), ([3, 2, 1],), (row,))
+        row.append(3)
+        self.assertEqual(told, ([3, 2],))
+        empty = []
+        told = sections.composed(((1, 3), (1, 3)), ((1, 3, 1), (1, 3, 1)), (empty, row))
+        row.append(4)
+        empty.append(4)
+        self.assertEqual(told, ([], [1, 2, 3]))
+
+    def test_texts_and_lists_may_be_lists_or_tuples_where_said(self):
+        hands = [("whole", ((1, 12),)), (("from", (3,)), ((1, None),))]
+        self.assertEqual(arguments.handed_on(BOUNDS, hands), arguments.handed_on(BOUNDS, tuple(hands)))
+        self.assertEqual(arguments.call_clash([ROW]), arguments.call_clash((ROW,)))
+
+
+if __name__ == "__main__":
+    unittest.main()
