@@ -171,6 +171,21 @@ def is_row(value):
     return isinstance(value[0], str) and 1 <= len(value[0]) <= SIGNS
 
 
+def is_equal(one, other):
+    """Whether two values are equal, or the same one; raises what comparing them raises."""
+    # In a tuple even a value that is not equal to itself is the same as itself.
+    return (one,) == (other,)
+
+
+def is_alike(one, other):
+    """Whether two values of any kind are equal, or the same one."""
+    try:
+        return is_equal(one, other)
+    except LimitExceeded:
+        # Sets of numbers with periods too unlike to be compared are not the same bounds: they are none.
+        return False
+
+
 def is_call(rows):
     """Whether any value is a list or tuple of such rows, those of one name with the same bounds."""
     if not isinstance(rows, (list, tuple)) or not 1 <= len(rows) <= ROWS:
@@ -180,8 +195,7 @@ def is_call(rows):
     bounds_by_name = {}
     for row in rows:
         name, bounds = row[:2]
-        # In a tuple even a value that is not equal to itself, and so no bounds, is the same as itself.
-        if bounds_by_name.setdefault(name, (bounds,)) != (bounds,):
+        if not is_alike(bounds_by_name.setdefault(name, bounds), bounds):
             return False
     return True
 

@@ -67,12 +67,19 @@ def subscripts(part):
     return [subscript_of(part, index) for index in range(many_of(part))]
 
 
+def index_of(triplet, number):
+    """The number, from 0 on, that an element of a triplet has, None for what is none."""
+    index, rest = divmod(number - triplet[0], triplet[2])
+    if rest != 0 or not 0 <= index < many_of(triplet):
+        return None
+    return index
+
+
 def has(part, number):
     """Whether a number is a subscript of a part."""
-    if not isinstance(part, tuple):
-        return number in subscripts(part)
-    index, rest = divmod(number - part[0], part[2])
-    return rest == 0 and 0 <= index < many_of(part)
+    if isinstance(part, tuple):
+        return index_of(part, number) is not None
+    return number in subscripts(part)
 
 
 def lies_between(part, low, high):
@@ -112,31 +119,44 @@ def is_same_row(part, other):
 
 def shared_subscripts(part, other):
     """How many different subscripts two parts share, and the least one, None if there is none."""
-    if isinstance(part, tuple) and isinstance(other, tuple):
-        return shared_by_triplets(part, other)
-    if isinstance(part, tuple):
-        return shared_subscripts(other, part)
-    both = sorted({number for number in subscripts(part) if has(other, number)})
-    if len(both) == 0:
+    both = met_part(part, other)
+    many = many_of(both)
+    if many == 0:
         return 0, None
-    return len(both), both[0]
+    return many, subscript_of(both, 0)
 
 
-def shared_by_triplets(triplet, other):
-    """How many numbers two triplets share, and the least one, None if there is none."""
+def met_part(part, other):
+    """The different subscripts that two parts share, ascending: a normal triplet if both are triplets, or a list."""
+    if isinstance(part, tuple) and isinstance(other, tuple):
+        return met_of(part, other)
+    if isinstance(part, tuple):
+        return met_part(other, part)
+    return sorted({number for number in subscripts(part) if has(other, number)})
+
+
+def normal_of(triplet):
+    """The normal triplet with the same elements."""
+    many = many_of(triplet)
+    if many == 0:
+        return 0, -1, 1
+    if many == 1:
+        return triplet[0], triplet[0], 1
+    return upward(triplet)
+
+
+def met_of(triplet, other):
+    """The normal triplet of the elements that two triplets share."""
     low, high, step = upward(triplet)
     other_low, other_high, other_step = upward(other)
     divisor, factor = divisor_and_factor(step, other_step)
     if (other_low - low) % divisor != 0:
-        return 0, None
+        return 0, -1, 1
     turns = (other_low - low) // divisor * factor
     period = step * (other_step // divisor)
     start = max(low, other_low)
     least = start + (low + step * turns - start) % period
-    top = min(high, other_high)
-    if least > top:
-        return 0, None
-    return (top - least) // period + 1, least
+    return normal_of((least, min(high, other_high), period))
 
 
 def upward(triplet):

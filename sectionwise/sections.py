@@ -98,6 +98,11 @@ def many_in(section):
     return multiplied([many_of(part) for part in section])
 
 
+def shape_of(section):
+    """The tuple of the numbers of subscripts of the kept parts of a section."""
+    return tuple([many_of(part) for part in section if is_kept(part)])
+
+
 def has_each_once(section):
     """Whether a section has no element twice."""
     return many_in(section) == 0 or all([is_part_once(part) for part in section])
@@ -158,6 +163,15 @@ def has_all(section, other):
     return all([covers(part, its) for part, its in zip(section, other)])
 
 
+def shared_elements(one, other):
+    """How many different elements two sections of an array share, and the one with the least place, or None."""
+    told = [shared_subscripts(part, its) for part, its in zip(one, other)]
+    many = multiplied([number for number, _ in told])
+    if many == 0:
+        return 0, None
+    return many, tuple([least for _, least in told])
+
+
 def check_bounds(bounds):
     """Refuse what is no bounds."""
     if not is_bounds(bounds):
@@ -202,7 +216,7 @@ def element_at(bounds, place):
 def shape(bounds, section):
     """The tuple of the numbers of subscripts of the kept parts."""
     check_section(bounds, section, "section")
-    return tuple([many_of(part) for part in section if is_kept(part)])
+    return shape_of(section)
 
 
 def count(bounds, section):
@@ -269,11 +283,7 @@ def is_contiguous(bounds, section):
 def shared(bounds, one, other):
     """How many different elements two sections share, and the one with the least place, None if there is none."""
     check_both(bounds, one, other)
-    told = [shared_subscripts(part, its) for part, its in zip(one, other)]
-    many = multiplied([number for number, _ in told])
-    if many == 0:
-        return 0, None
-    return many, tuple([least for _, least in told])
+    return shared_elements(one, other)
 
 
 def includes(bounds, one, other):

@@ -132,3 +132,46 @@ def dummy(rng, many):
         if len(plain.array(one)) <= many:
             return one
     return ((1, rng.randint(0, many)),)
+
+
+def same_many(rng, low, high, many):
+    """A triplet with so many elements within a range that has as many numbers."""
+    if many == 0:
+        return empty_triplet(rng)
+    steps = [step for step in (1, 1, 1, 2, 3) if (many - 1) * step <= high - low]
+    step = rng.choice(steps)
+    first = rng.randint(low, high - (many - 1) * step)
+    last = first + (many - 1) * step
+    if rng.random() < 0.4:
+        first, last, step = last, first, -step
+    if many == 1:
+        step = rng.choice([-5, -1, 1, 4])
+        return (first, first + step // 2 if step > 0 else first - 1 if step < -1 else first, step)
+    return (first, last + rng.randint(0, abs(step) - 1) * (1 if step > 0 else -1), step)
+
+
+def empty_triplet(rng):
+    """A triplet without elements."""
+    while True:
+        one = empty_part(rng)
+        if type(one) is tuple:
+            return one
+
+
+def assignment(rng, most=4, extents=(1, 2, 3, 4, 5, 6)):
+    """An array with two sections of one shape, with the same parts kept and without lists."""
+    bounds, one, other = [], [], []
+    for _ in range(rng.randint(1, most)):
+        low = rng.randint(-3, 3)
+        extent = rng.choice(extents)
+        high = low + extent - 1
+        bounds.append((low, high))
+        if rng.random() < 0.2:
+            number = rng.randint(low, high)
+            one.append(number)
+            other.append(number if rng.random() < 0.8 else rng.randint(low, high))
+        else:
+            many = rng.randint(1, extent) if rng.random() < 0.97 else 0
+            one.append(same_many(rng, low, high, many))
+            other.append(one[-1] if rng.random() < 0.15 else same_many(rng, low, high, many))
+    return tuple(bounds), tuple(one), tuple(other)

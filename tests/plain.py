@@ -188,3 +188,131 @@ def call_clash(rows):
             if at != to and name == other:
                 clashes += [(name, place, at, to) for place in writes & reached]
     return min(clashes) if clashes else None
+
+
+def normal(row):
+    """The normal triplet of a list of numbers that are evenly apart, in any order."""
+    row = sorted(row)
+    if len(row) == 0:
+        return (0, -1, 1)
+    if len(row) == 1:
+        return (row[0], row[0], 1)
+    return (row[0], row[-1], row[1] - row[0])
+
+
+def less(one, other):
+    """The triplets of what one has and the other has not, in the order that promise 7 tells; None if too far apart."""
+    row = sorted(numbers(one))
+    shared = [number for number in row if number in numbers(other)]
+    if not shared:
+        return [normal(row)] if row else []
+    pieces = [[number for number in row if number < shared[0]]]
+    if len(shared) > 1:
+        if row.index(shared[1]) - row.index(shared[0]) > 300:
+            return None
+        step = shared[1] - shared[0]
+        for number in row:
+            if shared[0] < number < shared[1]:
+                pieces.append([more for more in row if number <= more < shared[-1] and (more - number) % step == 0])
+    pieces.append([number for number in row if number > shared[-1]])
+    return [normal(piece) for piece in pieces if piece]
+
+
+def apart(triplets):
+    """What each triplet has beyond those ahead of it; None if there are too many pieces."""
+    told = []
+    for at, triplet in enumerate(triplets):
+        pieces = [normal(numbers(triplet))] if numbers(triplet) else []
+        for other in triplets[:at]:
+            left = []
+            for piece in pieces:
+                more = less(piece, other)
+                if more is None:
+                    return None
+                left += more
+            pieces = left
+            if len(told) + len(pieces) > 300:
+                return None
+        told += pieces
+    return told
+
+
+def union(triplets):
+    """All numbers of triplets, ascending."""
+    return sorted({number for triplet in triplets for number in numbers(triplet)})
+
+
+def in_rows(rows, n):
+    """Whether a number is in the set of rows (first, step, last)."""
+    return any(first <= n and (n - first) % step == 0 and (last is None or n <= last) for first, step, last in rows)
+
+
+def loop_steps(one, other, order):
+    """Each step of an assignment by loops, in their order: (write index, read element, written element)."""
+    kept = [at for at, part in enumerate(one) if type(part) is not int]
+    if any(numbers(part) == [] for part in one):
+        return []
+    told = []
+
+    def go(left, index):
+        if left:
+            loop, way = left[0]
+            for number in range(len(numbers(one[kept[loop]])))[::way]:
+                go(left[1:], {**index, loop: number})
+        else:
+            told.append(tuple(index[loop] for loop in range(len(kept))))
+
+    go(list(order), {})
+    return [(index, at_index(other, index), at_index(one, index)) for index in told]
+
+
+def at_index(section, index):
+    """The element of a section at the indexes of its loops."""
+    left = list(index)
+    return tuple(part if type(part) is int else numbers(part)[left.pop(0)] for part in section)
+
+
+def clash(one, other, order):
+    """The first read of an element that was written ahead, None if there is none."""
+    written = {}
+    for index, read, write in loop_steps(one, other, order):
+        if read in written:
+            return (read, written[read], index)
+        written[write] = index
+    return None
+
+
+def orders(many):
+    """All orders of so many loops, ascending."""
+    ways = itertools.product((-1, 1), repeat=many)
+    return sorted(tuple(zip(loops, way)) for way in ways for loops in itertools.permutations(range(many)))
+
+
+def signs(one, other):
+    """The signs of the differences of numbers of shared subscripts, for each loop."""
+    loops = [(numbers(part), numbers(its)) for part, its in zip(one, other) if type(part) is not int]
+    if not set(elements(one)) & set(elements(other)):
+        return [() for _ in loops]
+    told = []
+    for row, its in loops:
+        lags = [row.index(number) - its.index(number) for number in row if number in its]
+        told.append(tuple(sorted({(lag > 0) - (lag < 0) for lag in lags})))
+    return told
+
+
+def done(bounds, one, other, contents):
+    """The contents behind an assignment, the right side read first."""
+    told = list(contents)
+    values = [contents[place] for place in places(bounds, other)]
+    for place, value in zip(places(bounds, one), values):
+        told[place] = value
+    return told
+
+
+def done_by(bounds, one, other, order, contents):
+    """The contents behind an assignment by loops."""
+    there = {element: place for place, element in enumerate(array(bounds))}
+    told = list(contents)
+    for _, read, write in loop_steps(one, other, order):
+        told[there[write]] = told[there[read]]
+    return told

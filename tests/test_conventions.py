@@ -4,9 +4,12 @@ import copy
 import inspect
 import unittest
 
-from sectionwise import arguments, sections
+from sectionwise import arguments, assigns, nsets, sections, triplets
+from sectionwise.nsets import NSet
 
 BOUNDS = ((1, 3), (0, 3))
+SET = NSet([(3, 5, None), (0, 2, 40)])
+TWO = {"bounds": BOUNDS, "one": ((2, 3, 1), (0, 2, 2)), "other": ((1, 2, 1), (0, 2, 2))}
 ROW = ("a", BOUNDS, ("section", ([1, 2, 3], [0, 1])), ((1, 2), (1, None)), ([1, 2], 1), ([2], [3, 1]))
 
 # Each function with its arguments by the names of the interface, in its order, and what it returns.
@@ -35,7 +38,45 @@ CALLS = [
     (arguments.handed_on,
      {"bounds": BOUNDS, "hands": [("whole", ((1, 9),)), (("section", ([4, 5],)), ((1, None),))]}, (3, 2)),
     (arguments.call_clash, {"rows": [ROW, ("a", BOUNDS, "whole", ((1, 12),), None, ([2, 1],))]}, ("a", 0, 0, 1)),
+    (triplets.triplet_size, {"triplet": (9, 2, -3)}, 3),
+    (triplets.triplet_element, {"triplet": (9, 2, -3), "index": 1}, 6),
+    (triplets.triplet_index, {"triplet": (9, 2, -3), "number": 3}, 2),
+    (triplets.normal, {"triplet": (9, 2, -3)}, (3, 9, 3)),
+    (triplets.turned, {"triplet": (2, 9, 3)}, (8, 2, -3)),
+    (triplets.is_same_set, {"one": (9, 2, -3), "other": (3, 11, 3)}, True),
+    (triplets.is_same_run, {"one": (9, 2, -3), "other": (3, 11, 3)}, False),
+    (triplets.met, {"one": (0, 100, 6), "other": (4, 100, 4)}, (12, 96, 12)),
+    (triplets.lies_in, {"one": (0, 100, 6), "other": (0, 100, 3)}, True),
+    (triplets.less, {"one": (0, 20, 2), "other": (4, 16, 6)}, [(0, 2, 2), (6, 12, 6), (8, 14, 6), (18, 20, 2)]),
+    (triplets.apart, {"triplets": [(0, 8, 2), (9, 0, -1)]}, [(0, 8, 2), (1, 7, 2), (9, 9, 1)]),
+    (triplets.union_size, {"triplets": [(0, 9, 2), (0, 9, 3)]}, 7),
+    (triplets.union_element, {"triplets": [(0, 9, 2), (0, 9, 3)], "index": 4}, 6),
+    (triplets.first_gap, {"triplets": [(0, 9, 2), (0, 9, 3)], "low": 2}, 5),
+    (NSet, {"rows": [(3, 5, None), (0, 2, 41)]}, SET),
+    (SET.has, {"n": 8}, True),
+    (SET.least, {"low": 41}, 43),
+    (SET.how_many, {"bound": 9}, 6),
+    (SET.tail, {}, (41, 5, [3])),
+    (nsets.union, {"one": SET, "other": NSet([(0, 1, 3)])}, NSet([(0, 2, 40), (3, 5, None), (1, 1, 1)])),
+    (nsets.meet, {"one": SET, "other": NSet([(0, 1, 9)])}, NSet([(0, 2, 9), (3, 1, 3)])),
+    (nsets.complement, {"one": NSet([(3, 1, None)])}, NSet([(0, 1, 2)])),
+    (assigns.does, {**TWO, "order": ((1, 1), (0, 1))}, False),
+    (assigns.clash, {**TWO, "order": ((1, -1), (0, 1))}, ((2, 2), (0, 1), (1, 1))),
+    (assigns.signs, TWO, [(-1,), (0,)]),
+    (assigns.good_orders, {**TWO, "one": (1, (0, 2, 2)), "other": (1, (1, 3, 2))}, [((0, -1),), ((0, 1),)]),
+    (assigns.good_order, {**TWO, "one": ((2, 3, 1), 1), "other": ((1, 2, 1), 1)}, ((0, -1),)),
+    (assigns.copy_needed, TWO, False),
+    (assigns.done, {"bounds": ((1, 3),), "one": ([3, 1],), "other": ([2, 2],), "contents": [7, 8, 9]}, [8, 8, 8]),
+    (assigns.done_by,
+     {"bounds": ((1, 3),), "one": ((2, 3, 1),), "other": ((1, 2, 1),), "order": ((0, 1),), "contents": [7, 8, 9]}, [7, 7, 7]),
+    (assigns.may_change_places,
+     {"bounds": BOUNDS, "first": (([1, 2], [0]), ([3, 3], [1])), "last": ((3, 0), (3, 1))}, True),
 ]
+
+
+def shown(given):
+    """Arguments as text, sets of numbers by what they are made of."""
+    return repr({name: vars(value) if type(value) is NSet else value for name, value in given.items()})
 
 
 class Conventions(unittest.TestCase):
@@ -46,8 +87,13 @@ class Conventions(unittest.TestCase):
             self.assertEqual(function(*given.values()), told, function)
             self.assertEqual(function(**given), told, function)
             self.assertEqual(function(**dict(reversed(list(given.items())))), told, function)
-            first, *others = given
-            self.assertEqual(function(given[first], **{name: given[name] for name in others}), told, function)
+            if given:
+                first, *others = given
+                self.assertEqual(function(given[first], **{name: given[name] for name in others}), told, function)
+
+    def test_of_what_is_left_out(self):
+        self.assertEqual(SET.least(), 0)
+        self.assertEqual(inspect.signature(NSet.least).parameters["low"].default, 0)
 
     def test_kinds_of_what_is_told(self):
         for function, given, told in CALLS:
@@ -58,16 +104,16 @@ class Conventions(unittest.TestCase):
 
     def test_nothing_passed_in_is_changed(self):
         for function, given, told in CALLS:
-            before = copy.deepcopy(given)
+            before = shown(given)
             function(**given)
-            self.assertEqual(repr(given), repr(before), function)
+            self.assertEqual(shown(given), before, function)
 
     def test_nothing_wrong_passed_in_is_changed(self):
         nested = [[1, [2]], {1: [2]}]
         before = copy.deepcopy(nested)
         for function, given, _ in CALLS:
             for name in given:
-                for value in [nested, (nested,), ("section", nested), [("a", nested)], [nested]]:
+                for value in [nested, (nested,), ("section", nested), [("a", nested)], [nested], (nested, nested)]:
                     try:
                         function(**{**given, name: value})
                     except ArithmeticError:
@@ -81,6 +127,18 @@ class Conventions(unittest.TestCase):
             self.assertEqual(second, told, function)
             self.assertEqual(function(**given), told, function)
             self.assertEqual(copy.deepcopy(given), given)
+
+    def test_contents_are_told_themselves_in_a_new_list(self):
+        inner = [1]
+        given = [inner, inner, []]
+        for told in [
+            assigns.done(((1, 3),), ((2, 3, 1),), ((1, 2, 1),), given),
+            assigns.done_by(((1, 3),), ((2, 3, 1),), ((1, 2, 1),), ((0, -1),), given),
+        ]:
+            self.assertIs(told[2], inner)
+            told.append(9)
+            told[0] = 7
+            self.assertEqual(given, [[1], [1], []])
 
     def spoil(self, thing):
         if type(thing) is list:

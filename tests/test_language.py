@@ -15,6 +15,8 @@ BUILTINS = (
 BARRED = "register mro elements open input law version_info with_traceback add_note".split()
 WORDS = "type typing enum Enum Flag Generic Protocol ABC namedtuple NamedTuple TypedDict abstractmethod dataclass".split()
 LIBRARY = {"heapq", "math", "itertools"}
+DOUBLE = ["__init__", "__eq__"]
+LISTS_ONLY = ["any", "all", "min", "max", "sum", "sorted"]
 STATEMENTS = (
     ast.Global, ast.AsyncFunctionDef, ast.AsyncFor, ast.AsyncWith, ast.Await, ast.Import, ast.Div, ast.MatMult,
 )
@@ -94,7 +96,7 @@ class Language(unittest.TestCase):
                     self.assertNotIn(node.attr, BARRED, (path, node.lineno))
             for name, line in bound.items():
                 self.assertNotIn(name, barred, (path, line))
-                self.assertTrue(name == "__init__" or not name.startswith("__"), (path, line))
+                self.assertTrue(name in DOUBLE or not name.startswith("__"), (path, line))
 
     def test_builtins_and_methods(self):
         own = {node.name for _, tree in trees() for node in ast.walk(tree) if isinstance(node, ast.FunctionDef)}
@@ -104,6 +106,41 @@ class Language(unittest.TestCase):
                     self.assertIn(node.id, BUILTINS, (path, node.lineno))
                 if isinstance(node, ast.Call) and isinstance(node.func, ast.Attribute):
                     self.assertIn(node.func.attr, own.union(METHODS), (path, node.lineno))
+
+    def test_what_a_class_that_compares_does_not_allow(self):
+        for path, tree in trees():
+            for node in ast.walk(tree):
+                if isinstance(node, ast.Call) and isinstance(node.func, ast.Name) and node.func.id in LISTS_ONLY:
+                    for given in node.args:
+                        self.assertNotIsInstance(given, ast.GeneratorExp, (path, node.lineno))
+                if isinstance(node, ast.Attribute):
+                    self.assertNotEqual(node.attr, "sort", (path, node.lineno))
+                if isinstance(node, ast.FunctionDef) and node.name == "__eq__":
+                    told = node.body[1:] if ast.get_docstring(node) else node.body
+                    self.assertEqual([type(row) for row in told], [ast.Return], (path, node.lineno))
+
+    def test_stars_and_methods(self):
+        for path, tree in trees():
+            for node in ast.walk(tree):
+                if isinstance(node, ast.Starred):
+                    self.assertIsInstance(node.value, (ast.Name, ast.Attribute), (path, node.lineno))
+                if isinstance(node, ast.ClassDef):
+                    methods = [row.name for row in node.body if isinstance(row, ast.FunctionDef)]
+                    self.assertEqual(len(methods), len(set(methods)))
+                    for part in ast.walk(node):
+                        if isinstance(part, ast.Attribute) and isinstance(part.ctx, ast.Store):
+                            self.assertNotIn(part.attr, methods, (path, part.lineno))
+
+    def test_library_names_are_only_called(self):
+        for path, tree in trees():
+            taken = {
+                alias.name for node in tree.body if isinstance(node, ast.ImportFrom) and node.module in LIBRARY
+                for alias in node.names
+            }
+            called = [node.func for node in ast.walk(tree) if isinstance(node, ast.Call)]
+            for node in ast.walk(tree):
+                if isinstance(node, ast.Name) and node.id in taken:
+                    self.assertIn(node, called, (path, node.lineno))
 
     def test_words_that_are_not_used(self):
         for path, tree in trees():

@@ -1,12 +1,13 @@
-"""Wrong inputs of all kinds, for each argument for which an error is listed, and several at once."""
+"""Wrong inputs to sections and arguments: of all kinds, for each argument for which an error is listed."""
 
-import itertools
 import unittest
 
+import asked
 import plain
 import wrong
 from sectionwise import arguments, sections
-from sectionwise.errors import InvalidArgument, InvalidSection
+from sectionwise.errors import InvalidArgument, InvalidSection, LimitExceeded
+from sectionwise.nsets import NSet
 from wrong import raised
 
 BOUNDS = ((1, 3), (0, 3))
@@ -121,45 +122,11 @@ FUNCTIONS = [
 ]
 
 
-class WrongInputs(unittest.TestCase):
+class WrongInputs(asked.Asked, unittest.TestCase):
 
-    def test_right_ones_are_taken(self):
-        for function, kinds in FUNCTIONS:
-            self.assertIsNone(raised(function, *[RIGHT[kind] for kind in kinds]), function)
-
-    def test_each_argument_alone(self):
-        for function, kinds in FUNCTIONS:
-            for at, kind in enumerate(kinds):
-                make, is_right, error = KINDS[kind]
-                many = 0
-                for value in make():
-                    if is_right(value):
-                        continue
-                    many += 1
-                    values = [RIGHT[other] for other in kinds]
-                    values[at] = value
-                    with self.subTest(function=function.__name__, kind=kind, value=value):
-                        self.assertEqual(raised(function, *values), error)
-                self.assertGreater(many, 50)
-
-    def test_what_is_wrong_first_is_raised(self):
-        for function, kinds in FUNCTIONS:
-            for at, behind in itertools.combinations(range(len(kinds)), 2):
-                make, is_right, error = KINDS[kinds[at]]
-                for value in make():
-                    if is_right(value):
-                        continue
-                    values = [RIGHT[other] for other in kinds]
-                    values[at] = value
-                    for other in [None, [], True, -1]:
-                        values[behind] = other
-                        with self.subTest(function=function.__name__, values=values):
-                            self.assertEqual(raised(function, *values), error)
-
-    def test_all_wrong_at_once(self):
-        for function, kinds in FUNCTIONS:
-            for value in [None, True, [], {}, set(), 1.5, "x", (None,), object()]:
-                self.assertEqual(raised(function, *[value for _ in kinds]), KINDS[kinds[0]][2], (function, value))
+    kinds = KINDS
+    right = RIGHT
+    functions = FUNCTIONS
 
     def test_within_hands(self):
         hand = (PART, DUMMY)
@@ -185,6 +152,19 @@ class WrongInputs(unittest.TestCase):
                     row = ROW[:at] + (value,) + ROW[at + 1:]
                     self.assertEqual(raised(arguments.call_clash, [ROW, row]), (InvalidSection, part), value)
                     self.assertEqual(raised(arguments.call_clash, [row, ROW[:2] + (None,) * 4]), (InvalidSection, part), value)
+
+    def test_bounds_that_cannot_be_compared(self):
+        one, other = NSet([(0, 99, None), (0, 98, None)]), NSet([(0, 97, None)])
+        self.assertEqual(raised(lambda: one == other), (LimitExceeded, 27720))
+        for first, second in [(one, other), ((one,), (other,)), (((one, 4),), ((other, 4),)), ([one], [other]), (BOUNDS, one), (one, BOUNDS)]:
+            told = raised(arguments.call_clash, [ROW[:1] + (first,) + ROW[2:], ROW[:1] + (second,) + ROW[2:]])
+            self.assertEqual(told, (InvalidArgument, "rows"))
+            told = raised(arguments.call_clash, [("b", BOUNDS) + ROW[2:], ROW[:1] + (one,) + ROW[2:]])
+            self.assertEqual(told, (InvalidSection, "bounds"))
+        nan = float("nan")
+        for value in [one, nan, [nan], {}, None]:
+            told = raised(arguments.call_clash, [ROW[:1] + (value,) + ROW[2:], ROW[:1] + (value,) + ROW[2:]])
+            self.assertEqual(told, (InvalidSection, "bounds"), value)
 
     def is_reached(self, value):
         return value is None or plain.is_section(DUMMY, value)

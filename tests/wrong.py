@@ -1,13 +1,14 @@
 """What calls raise, and objects of all kinds, of which most are wrong wherever they are put."""
 
 import sectionwise.errors as errors
+from sectionwise.nsets import NSet, complement
 
 
 def raised(function, *given):
     """What a call raises: the error's class and its attribute, None if it raises nothing."""
     try:
         function(*given)
-    except (errors.InvalidSection, errors.InvalidArgument) as error:
+    except (errors.InvalidTriplet, errors.InvalidSection, errors.InvalidArgument) as error:
         return type(error), error.part
     except errors.LimitExceeded as error:
         return type(error), error.limit
@@ -37,6 +38,7 @@ def values():
         errors.SectionError, errors.SectionError(), errors.InvalidTriplet("one"), errors.InvalidSection("bounds"),
         errors.InvalidFamily("step"), errors.InvalidLayout("units"), errors.InvalidArgument("place"),
         errors.InvalidProgram((0,), "row"), errors.LimitExceeded(5000), ValueError("x"),
+        NSet, NSet([]), NSet([(0, 1, None)]), complement(NSet([(3, 97, None)])), NSet([(0, 98, 7), (5, 99, None)]),
     ]
     nested = []
     nested.append(nested)
@@ -68,6 +70,16 @@ def parts():
     found = values() + [[1] * 65, [1] * 64, (1, 4, 0), (1, 4), (1, 4, 1, 1), [1, 4, 1], [[1]], ((1, 4, 1),)]
     for value in values():
         found += [[value], [1, value], (value, 4, 1), (1, value, 1), (1, 4, value)]
+    return found
+
+
+def triplets():
+    """What may be put for a triplet."""
+    far = 10 ** 30
+    found = values() + [(1, 4, 0), (1, 4), (1, 4, 1, 1), [1, 4, 1], ((1, 4, 1),), (far, -far, -far), (far, 0, 1)]
+    found += [(far + 1, 4, 1), (1, far + 1, 1), (1, 4, far + 1), (-far - 1, 4, 1), (1, -far - 1, 1), (4, 1, -far - 1)]
+    for value in values():
+        found += [(value, 4, 1), (1, value, 1), (1, 4, value)]
     return found
 
 
