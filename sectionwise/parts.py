@@ -7,6 +7,7 @@ list may have.
 
 FAR = 10 ** 30
 LIST_LIMIT = 64
+LETTERS = "abcdefghijklmnopqrstuvwxyz"
 
 
 def is_number(value):
@@ -17,6 +18,13 @@ def is_number(value):
 def is_far(value):
     """Whether any value is a far number."""
     return is_number(value) and -FAR <= value <= FAR
+
+
+def is_name(value, most):
+    """Whether any value is a name of one to so many small letters."""
+    if not isinstance(value, str) or not 1 <= len(value) <= most:
+        return False
+    return all([letter in LETTERS for letter in value])
 
 
 def is_triplet(value):
@@ -98,13 +106,12 @@ def is_part_once(part):
 
 def covers(part, other):
     """Whether each subscript of the other part is one of the part."""
-    if many_of(other) <= LIST_LIMIT:
-        return all([has(part, number) for number in subscripts(other)])
-    if not isinstance(part, tuple):
-        return False
-    # With two neighbours the part has the other one's step, with both ends its range.
-    marks = [subscript_of(other, 0), subscript_of(other, 1), last_of(other)]
-    return all([has(part, number) for number in marks])
+    many = many_of(other)
+    if many > 2 and isinstance(part, tuple) and isinstance(other, tuple):
+        # With two neighbours the part has the other one's step, with both ends its range.
+        marks = [subscript_of(other, 0), subscript_of(other, 1), last_of(other)]
+        return all([has(part, number) for number in marks])
+    return many <= LIST_LIMIT and all([has(part, number) for number in subscripts(other)])
 
 
 def is_same_row(part, other):
@@ -112,9 +119,9 @@ def is_same_row(part, other):
     many = many_of(part)
     if many != many_of(other):
         return False
-    if many <= LIST_LIMIT:
-        return subscripts(part) == subscripts(other)
-    return part[0] == other[0] and part[2] == other[2]
+    if many > 1 and isinstance(part, tuple) and isinstance(other, tuple):
+        return part[0] == other[0] and part[2] == other[2]
+    return many <= LIST_LIMIT and subscripts(part) == subscripts(other)
 
 
 def shared_subscripts(part, other):

@@ -4,13 +4,20 @@ import copy
 import inspect
 import unittest
 
-from sectionwise import arguments, assigns, nsets, sections, triplets
+from sectionwise import arguments, assigns, clashes, families, nsets, sections, sharing, triplets
+from sectionwise.families import Family
 from sectionwise.nsets import NSet
 
 BOUNDS = ((1, 3), (0, 3))
 SET = NSet([(3, 5, None), (0, 2, 40)])
 TWO = {"bounds": BOUNDS, "one": ((2, 3, 1), (0, 2, 2)), "other": ((1, 2, 1), (0, 2, 2))}
 ROW = ("a", BOUNDS, ("section", ([1, 2, 3], [0, 1])), ((1, 2), (1, None)), ([1, 2], 1), ([2], [3, 1]))
+FAMILY, TURNED = Family((1, 0), (0, 1), 1), Family((0, 1), (1, 0), -1)
+FAMILIES = {"one": FAMILY, "other": TURNED}
+ALL = NSet([(0, 1, None)])
+VARIABLES = [("a", 1, ((1, 10),)), ("d", 2, ((0, 3),)), ("x", 1, ())]
+ROWS = [[("a", (4,)), ("d", (1,))], [("x", ()), ("d", ())]]
+LAYOUT = {"variables": VARIABLES, "rows": ROWS}
 
 # Each function with its arguments by the names of the interface, in its order, and what it returns.
 CALLS = [
@@ -71,12 +78,42 @@ CALLS = [
      {"bounds": ((1, 3),), "one": ((2, 3, 1),), "other": ((1, 2, 1),), "order": ((0, 1),), "contents": [7, 8, 9]}, [7, 7, 7]),
     (assigns.may_change_places,
      {"bounds": BOUNDS, "first": (([1, 2], [0]), ([3, 3], [1])), "last": ((3, 0), (3, 1))}, True),
+    (Family, {"first": (1, 0), "last": (0, 1), "step": 1}, FAMILY),
+    (families.triplet_at, {"family": TURNED, "n": 7}, (7, 1, -1)),
+    (families.size_at, {"family": TURNED, "n": 7}, 7),
+    (families.alike_sizes, FAMILIES, ALL),
+    (families.within, {"family": FAMILY, "low": (1, 0), "high": (9, 0)}, NSet([(0, 1, 9)])),
+    (families.same_sequence, FAMILIES, NSet([(0, 1, 1)])),
+    (families.same_elements, FAMILIES, ALL),
+    (clashes.shares, FAMILIES, NSet([(1, 1, None)])),
+    (clashes.inside, {"one": FAMILY, "other": Family((2, 0), (0, 2), 1)}, NSet([(0, 1, 0)])),
+    (clashes.least_shared, {**FAMILIES, "n": 5}, 1),
+    (clashes.clashes, {**FAMILIES, "order": "forward"}, NSet([(2, 1, None)])),
+    (clashes.needs_copy, FAMILIES, NSet([(2, 1, None)])),
+    (clashes.first_clash, {**FAMILIES, "n": 5, "order": "backward"}, (4, 3, 1)),
+    (clashes.may_swap, {"first": ("a", FAMILY, "b", FAMILY), "last": ("c", FAMILY, "a", TURNED)}, NSet([(0, 1, 0)])),
+    (sharing.offsets, LAYOUT, [("a", "a", 0), ("d", "a", 1), ("x", "a", 1)]),
+    (sharing.idle, {**LAYOUT, "rows": ROWS + [[("a", (2,)), ("x", ())]]}, [2]),
+    (sharing.are_bases, {**LAYOUT, "thing": [5, 6, 6]}, True),
+    (sharing.ring, {**LAYOUT, "rows": ROWS}, None),
+    (sharing.is_ring, {**LAYOUT, "rows": [[("a", (1,)), ("a", (2,))]], "thing": [(0, 1, 0)]}, True),
+    (sharing.shared, {**LAYOUT, "one": "a", "other": "d"}, (1, 8)),
+    (sharing.touched, {**LAYOUT, "one": "d", "number": 0, "other": "a"}, (1, 2)),
+    (sharing.pairs_number, {**LAYOUT, "one": "a", "other": "d"}, 8),
+    (sharing.twins_number, {**LAYOUT, "one": "a", "other": "x"}, 1),
 ]
 
 
 def shown(given):
-    """Arguments as text, sets of numbers by what they are made of."""
-    return repr({name: vars(value) if type(value) is NSet else value for name, value in given.items()})
+    """Arguments as text, objects of the package by what they are made of."""
+    return repr({name: told(value) for name, value in given.items()})
+
+
+def told(value):
+    """A value, with objects of the package as what they are made of."""
+    if type(value) is tuple:
+        return tuple(told(part) for part in value)
+    return vars(value) if type(value) in (NSet, Family) else value
 
 
 class Conventions(unittest.TestCase):
@@ -141,11 +178,15 @@ class Conventions(unittest.TestCase):
             self.assertEqual(given, [[1], [1], []])
 
     def spoil(self, thing):
-        if type(thing) is list:
-            thing.append("spoilt")
-        if type(thing) is tuple:
+        if type(thing) in (list, tuple):
             for part in thing:
                 self.spoil(part)
+        if type(thing) is dict:
+            for part in thing.values():
+                self.spoil(part)
+            thing["spoilt"] = True
+        if type(thing) is list:
+            thing.append("spoilt")
 
     def test_the_lists_of_a_call_may_change_behind_it(self):
         row = [1, 2]

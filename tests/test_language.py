@@ -12,9 +12,14 @@ BUILTINS = (
     "repr any all divmod iter next Exception ValueError TypeError KeyError IndexError LookupError ZeroDivisionError "
     "ArithmeticError OverflowError RuntimeError NotImplementedError AttributeError StopIteration NotImplemented"
 ).split()
+# The examples of other tests leave a name _ among the builtins.
+ALL_BUILTINS = [name for name in dir(builtins) if name != "_"]
 BARRED = "register mro elements open input law version_info with_traceback add_note".split()
 WORDS = "type typing enum Enum Flag Generic Protocol ABC namedtuple NamedTuple TypedDict abstractmethod dataclass".split()
 LIBRARY = {"heapq", "math", "itertools"}
+AT_ONCE = ["zip", "enumerate", "reversed", "range"]
+VIEWS = ["items", "keys", "values"]
+TAKERS = "list tuple dict sorted sum any all enumerate zip min max len reversed".split()
 DOUBLE = ["__init__", "__eq__"]
 LISTS_ONLY = ["any", "all", "min", "max", "sum", "sorted"]
 STATEMENTS = (
@@ -82,7 +87,7 @@ class Language(unittest.TestCase):
                     self.assertNotIn("%", str(node.value), path)
 
     def test_names(self):
-        barred = set(BARRED + dir(builtins))
+        barred = set(BARRED + ALL_BUILTINS)
         for path, tree in trees():
             bound = {}
             for node in ast.walk(tree):
@@ -102,7 +107,7 @@ class Language(unittest.TestCase):
         own = {node.name for _, tree in trees() for node in ast.walk(tree) if isinstance(node, ast.FunctionDef)}
         for path, tree in trees():
             for node in ast.walk(tree):
-                if isinstance(node, ast.Name) and node.id in dir(builtins):
+                if isinstance(node, ast.Name) and node.id in ALL_BUILTINS:
                     self.assertIn(node.id, BUILTINS, (path, node.lineno))
                 if isinstance(node, ast.Call) and isinstance(node.func, ast.Attribute):
                     self.assertIn(node.func.attr, own.union(METHODS), (path, node.lineno))
@@ -130,6 +135,47 @@ class Language(unittest.TestCase):
                     for part in ast.walk(node):
                         if isinstance(part, ast.Attribute) and isinstance(part.ctx, ast.Store):
                             self.assertNotIn(part.attr, methods, (path, part.lineno))
+
+    def test_what_is_iterated_at_once(self):
+        for path, tree in trees():
+            allowed = []
+            for node in ast.walk(tree):
+                if isinstance(node, (ast.For, ast.comprehension)):
+                    allowed.append(node.iter)
+                if isinstance(node, ast.Call) and isinstance(node.func, ast.Name) and node.func.id in TAKERS:
+                    allowed += node.args[:1]
+            for node in ast.walk(tree):
+                if not isinstance(node, ast.Call):
+                    continue
+                is_view = isinstance(node.func, ast.Attribute) and node.func.attr in VIEWS
+                if is_view or (isinstance(node.func, ast.Name) and node.func.id in AT_ONCE):
+                    self.assertIn(node, allowed, (path, node.lineno))
+
+    def test_sets_stand_where_they_may(self):
+        for path, tree in trees():
+            allowed = []
+            for node in ast.walk(tree):
+                if isinstance(node, ast.Call) and isinstance(node.func, ast.Name) and node.func.id in ("sorted", "len"):
+                    allowed += node.args
+                if isinstance(node, ast.Compare):
+                    allowed += node.comparators
+            for node in ast.walk(tree):
+                if isinstance(node, (ast.Set, ast.SetComp)) or (isinstance(node, ast.Call) and getattr(node.func, "id", "") == "set"):
+                    self.assertIn(node, allowed, (path, node.lineno))
+
+    def test_what_a_loop_goes_over_is_not_changed_in_it(self):
+        for path, tree in trees():
+            for node in ast.walk(tree):
+                if isinstance(node, ast.For):
+                    names = {part.id for part in ast.walk(node.iter) if isinstance(part, ast.Name)}
+                    changed = set()
+                    for part in [more for row in node.body for more in ast.walk(row)]:
+                        if isinstance(part, ast.Subscript) and not isinstance(part.ctx, ast.Load) and isinstance(part.value, ast.Name):
+                            changed.add(part.value.id)
+                        if isinstance(part, ast.Call) and isinstance(part.func, ast.Attribute) and isinstance(part.func.value, ast.Name):
+                            if part.func.attr in ("append", "extend", "pop", "remove", "insert", "clear", "update", "setdefault"):
+                                changed.add(part.func.value.id)
+                    self.assertEqual(names & changed, set(), (path, node.lineno))
 
     def test_library_names_are_only_called(self):
         for path, tree in trees():

@@ -1,17 +1,24 @@
 """What calls raise, and objects of all kinds, of which most are wrong wherever they are put."""
 
 import sectionwise.errors as errors
+from sectionwise.families import Family
 from sectionwise.nsets import NSet, complement
+
+WITH_PART = [
+    errors.InvalidTriplet, errors.InvalidSection, errors.InvalidFamily, errors.InvalidLayout, errors.InvalidArgument,
+]
 
 
 def raised(function, *given):
-    """What a call raises: the error's class and its attribute, None if it raises nothing."""
+    """What a call raises: the error's class and its attributes, None if it raises nothing."""
     try:
         function(*given)
-    except (errors.InvalidTriplet, errors.InvalidSection, errors.InvalidArgument) as error:
-        return type(error), error.part
     except errors.LimitExceeded as error:
         return type(error), error.limit
+    except errors.InvalidProgram as error:
+        return type(error), error.at, error.part
+    except tuple(WITH_PART) as error:
+        return type(error), error.part
     except errors.SectionError as error:
         return type(error), None
     return None
@@ -39,6 +46,7 @@ def values():
         errors.InvalidFamily("step"), errors.InvalidLayout("units"), errors.InvalidArgument("place"),
         errors.InvalidProgram((0,), "row"), errors.LimitExceeded(5000), ValueError("x"),
         NSet, NSet([]), NSet([(0, 1, None)]), complement(NSet([(3, 97, None)])), NSet([(0, 98, 7), (5, 99, None)]),
+        Family, Family((1, 0), (0, 1), 1), Family((0, 0), (5, 0), -2),
     ]
     nested = []
     nested.append(nested)
