@@ -55,11 +55,10 @@ def lag_at(triplet, other, number):
 
 def clash_marks(triplet, other):
     """What tells whether an assignment of two triplets clashes."""
-    told = size_marks(triplet, other) + shared_marks(triplet, other)
-    for ends in shared_ends(triplet, other):
-        # Which of the two ends is the one of the shared elements, and what comes earlier there.
-        told = told + [end - ends[0] for end in ends] + [lag_at(triplet, other, end) for end in ends]
-    return told
+    least, greatest = shared_ends(triplet, other)
+    # Lags change evenly from the least shared element on: what they are at its ends they are at some shared element.
+    lags = [lag_at(triplet, other, end) for end in least + greatest]
+    return size_marks(triplet, other) + shared_marks(triplet, other) + lags
 
 
 def share_some(triplet, other):

@@ -88,6 +88,18 @@ def range_marks(triplet, other):
     return size_marks(triplet, other) + [even_size(triplet) - 1, even_ends(triplet)[0] - even_ends(other)[0]]
 
 
+def within_marks(triplet, low, high):
+    """What tells whether a triplet lies between two numbers."""
+    least, greatest = even_ends(triplet)
+    return [even_size(triplet), least - low, high - greatest]
+
+
+def lies_within(triplet, low, high):
+    """Whether no element of a triplet is below a number, or above another one."""
+    least, greatest = even_ends(triplet)
+    return many_of(triplet) == 0 or (low <= least and greatest <= high)
+
+
 def check_family(value, name):
     """Refuse the argument of this name if it is no family."""
     if not isinstance(value, Family):
@@ -153,15 +165,3 @@ def within(family, low, high):
         lambda n: within_marks(triplet_there(family, n), value_at(low, n), value_at(high, n)),
         lambda n: lies_within(triplet_there(family, n), value_at(low, n), value_at(high, n)),
     )
-
-
-def within_marks(triplet, low, high):
-    """What tells whether a triplet lies between two numbers."""
-    least, greatest = even_ends(triplet)
-    return [even_size(triplet), least - low, high - greatest]
-
-
-def lies_within(triplet, low, high):
-    """Whether no element of a triplet is below a number, or above another one."""
-    least, greatest = even_ends(triplet)
-    return many_of(triplet) == 0 or (low <= least and greatest <= high)

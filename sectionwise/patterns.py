@@ -59,5 +59,5 @@ def segments_by(rows):
 
 
 def set_where(period, marks, holds):
-    """The set of all n at which something holds, told by a function, as is what has the marks of an n."""
+    """The set of all n at which holds(n) is True, where marks(n) are the marks of an n."""
     return set_of(period, segments_by([flips_of(residue, period, marks, holds) for residue in range(period)]))

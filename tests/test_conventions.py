@@ -4,9 +4,13 @@ import copy
 import inspect
 import unittest
 
-from sectionwise import arguments, assigns, clashes, families, nsets, sections, sharing, triplets
+from sectionwise import (
+    arguments, assigns, clashes, commons, families, flows, functions, nsets, sections, sharing, storage, triplets,
+)
 from sectionwise.families import Family
+from sectionwise.flows import Flow
 from sectionwise.nsets import NSet
+from sectionwise.storage import Store
 
 BOUNDS = ((1, 3), (0, 3))
 SET = NSet([(3, 5, None), (0, 2, 40)])
@@ -18,6 +22,16 @@ ALL = NSet([(0, 1, None)])
 VARIABLES = [("a", 1, ((1, 10),)), ("d", 2, ((0, 3),)), ("x", 1, ())]
 ROWS = [[("a", (4,)), ("d", (1,))], [("x", ()), ("d", ())]]
 LAYOUT = {"variables": VARIABLES, "rows": ROWS}
+UNIT = (VARIABLES, [("c", ("d", "a"))], [[("x", ()), ("a", (3,))]])
+SMALL = ([("m", 3, ((1, 2),)), ("k", 1, ())], [("c", ("m",)), ("", ("k",))], [])
+ARRAYS = {"a": ((1, 4),), "b": ((1, 2), (1, 1))}
+FLOW = Flow(ARRAYS, [("copy", "a", ([2, 1, 3, 4],), "a", ((1, 4, 1),), None), ("swap", "a", ([4],), "b", ([2], 1), (True,))])
+OTHER = Flow(ARRAYS, [("times", "b", ([1, 2], [1]), 3, (True, False))])
+ARRAY, MASK = ((2, 3), [1, 2, 3, 4, 5, 6]), ((2, 3), [True, False, False, True, True, False])
+STORED = [("a", "integer", 0, 3), ("d", "double", 1, 1)]
+STORE = Store(4, STORED)
+STORE.write("a", 2, 5)
+RUN = {"units": 4, "variables": STORED, "rows": [("either", [("write", "a", 1, 5)], []), ("copy", "a", 2, "a", 1)]}
 
 # Each function with its arguments by the names of the interface, in its order, and what it returns.
 CALLS = [
@@ -101,7 +115,64 @@ CALLS = [
     (sharing.touched, {**LAYOUT, "one": "d", "number": 0, "other": "a"}, (1, 2)),
     (sharing.pairs_number, {**LAYOUT, "one": "a", "other": "d"}, 8),
     (sharing.twins_number, {**LAYOUT, "one": "a", "other": "x"}, 1),
+    (commons.refusal, {"unit": (VARIABLES, [("c", ("d",)), ("", ("a",))], ROWS)}, ("joined", "c", "")),
+    (commons.layout, {"unit": UNIT}, [("c", 18, (("a", 8), ("d", 0), ("x", 10)))]),
+    (commons.across, {"one": UNIT, "other": SMALL, "block": "c"}, [("d", "m", 0, 6)]),
+    (commons.elements_across, {"one": UNIT, "name": "d", "number": 1, "other": SMALL, "block": "c"}, [("m", 0, 1)]),
+    (commons.lengths, {"units": [UNIT, SMALL]}, [("c", (18, 6)), ("", (None, 1))]),
+    (commons.unlike, {"units": [UNIT, SMALL]}, ("c", 0, 1)),
+    (commons.storage, {"units": [UNIT, SMALL]}, [("", 1), ("c", 18)]),
+    (Flow, {"arrays": ARRAYS, "statements": OTHER.statements()}, OTHER),
+    (FLOW.arrays, {}, ARRAYS),
+    (OTHER.statements, {}, [("times", "b", ([1, 2], [1]), 3, (True, False))]),
+    (flows.forms, {"program": OTHER}, {
+        "a": [(0, (("a", 0, 1),)), (0, (("a", 1, 1),)), (0, (("a", 2, 1),)), (0, (("a", 3, 1),))], "b": [(0, (("b", 0, 3),)), (0, (("b", 1, 1),))],
+    }),
+    (flows.run, {"program": FLOW, "contents": {"a": [1, 2, 3, 4], "b": (5, 6)}}, {"a": [2, 1, 3, 6], "b": [5, 4]}),
+    (flows.parted, {"program": FLOW, "other": OTHER}, ("a", 0, {"a": [1, 0, 0, 0], "b": [0, 0]})),
+    (flows.lost, {"program": Flow(ARRAYS, [("fill", "b", (1, 1), 3, None)])}, [("b", 0)]),
+    (flows.may_change_places, {"program": FLOW, "at": 0}, True),
+    (flows.rings, {"program": FLOW}, [[("a", 0), ("a", 1)], [("a", 3), ("b", 1)]]),
+    (flows.again, {"program": FLOW}, 2),
+    (flows.after, {"program": FLOW, "times": 3},
+     {"a": [("a", 1), ("a", 0), ("a", 2), ("b", 1)], "b": [("b", 0), ("a", 3)]}),
+    (functions.is_array, {"value": ARRAY}, True),
+    (functions.is_mask, {"value": ARRAY}, False),
+    (functions.element, {"array": ARRAY, "subscripts": [2, 3]}, 6),
+    (functions.reshape, {"source": ARRAY, "shape": [7], "pad": ((1,), [9]), "order": [1]}, ((7,), [1, 2, 3, 4, 5, 6, 9])),
+    (functions.transpose, {"array": ARRAY}, ((3, 2), [1, 3, 5, 2, 4, 6])),
+    (functions.spread, {"source": ((1,), [7]), "dim": 1, "copies": 2}, ((2, 1), [7, 7])),
+    (functions.merge, {"one": ARRAY, "other": ((2, 3), [0] * 6), "mask": MASK}, ((2, 3), [1, 0, 0, 4, 5, 0])),
+    (functions.pack, {"array": ARRAY, "mask": MASK, "vector": ((4,), [9] * 4)}, ((4,), [1, 4, 5, 9])),
+    (functions.unpack, {"vector": ((3,), [7, 8, 9]), "mask": MASK, "field": 0}, ((2, 3), [7, 0, 0, 8, 9, 0])),
+    (functions.cshift, {"array": ARRAY, "shift": ((2,), [1, 2]), "dim": 2}, ((2, 3), [3, 6, 5, 2, 1, 4])),
+    (functions.eoshift, {"array": ARRAY, "shift": 1, "boundary": ((2,), [8, 9]), "dim": 2}, ((2, 3), [3, 4, 5, 6, 8, 9])),
+    (functions.total, {"array": ARRAY, "dim": 1, "mask": MASK}, ((3,), [1, 4, 5])),
+    (functions.product, {"array": ARRAY, "dim": None, "mask": MASK}, 20),
+    (functions.how_many, {"mask": MASK, "dim": 2}, ((2,), [2, 1])),
+    (functions.any_of, {"mask": MASK, "dim": 2}, ((2,), [True, True])),
+    (functions.all_of, {"mask": MASK, "dim": None}, False),
+    (functions.maxloc, {"array": ARRAY, "dim": None, "mask": MASK, "back": True}, (1, 3)),
+    (functions.minloc, {"array": ARRAY, "dim": 2, "mask": MASK, "back": False}, ((2,), [1, 2])),
+    (functions.matmul, {"one": ARRAY, "other": ((3,), [1, 0, 2])}, ((2,), [11, 14])),
+    (Store, {"units": 4, "variables": STORED}, Store(4, STORED)),
+    (STORE.read, {"name": "a", "k": 2}, 5),
+    (STORE.write, {"name": "a", "k": 2, "value": 5}, None),
+    (STORE.defined, {"name": "a"}, [False, True, False]),
+    (STORE.copy, {}, STORE),
+    (storage.run, {**RUN, "choices": [True]}, ((1,), Store(4, STORED))),
+    (storage.surely, RUN, {"a": [True, True, False], "d": [False]}),
+    (storage.perhaps, RUN, {"a": [True, True, False], "d": [False]}),
+    (storage.wrong_reads, RUN, [(1,)]),
 ]
+
+# What of each argument behind a * is taken where it is left out.
+LEFT_OUT = {
+    "reshape": {"pad": None, "order": None}, "pack": {"vector": None}, "cshift": {"dim": 1}, "eoshift": {"boundary": 0, "dim": 1},
+    "total": {"dim": None, "mask": True}, "product": {"dim": None, "mask": True}, "how_many": {"dim": None}, "any_of": {"dim": None},
+    "all_of": {"dim": None}, "maxloc": {"dim": None, "mask": True, "back": False}, "minloc": {"dim": None, "mask": True, "back": False},
+    "run": {"choices": ()},
+}
 
 
 def shown(given):
@@ -113,7 +184,41 @@ def told(value):
     """A value, with objects of the package as what they are made of."""
     if type(value) is tuple:
         return tuple(told(part) for part in value)
-    return vars(value) if type(value) in (NSet, Family) else value
+    return vars(value) if type(value) in (NSet, Family, Flow, Store) else value
+
+
+def kinds(thing):
+    """The kind of what is told, and of all within it."""
+    if type(thing) in (list, tuple):
+        return type(thing), [kinds(part) for part in thing]
+    if type(thing) is dict:
+        return dict, {name: kinds(thing[name]) for name in thing}
+    return type(thing)
+
+
+def split(function, given):
+    """Arguments that may be told by place, and those behind a *."""
+    named = [name for name, told in inspect.signature(function).parameters.items() if told.kind is told.KEYWORD_ONLY]
+    return {name: given[name] for name in given if name not in named}, {name: given[name] for name in given if name in named}
+
+
+INTERFACE = {
+    "triplets": "triplet_size triplet_element triplet_index normal turned is_same_set is_same_run met lies_in less apart "
+                "union_size union_element first_gap",
+    "sections": "extents element_at place_of shape count is_once element_of listed composed stretches is_contiguous shared "
+                "includes same_set same_sequence",
+    "nsets": "NSet NSet.has NSet.least NSet.how_many NSet.tail union meet complement",
+    "families": "Family triplet_at size_at alike_sizes within same_sequence same_elements",
+    "clashes": "shares inside least_shared clashes needs_copy first_clash may_swap",
+    "assigns": "does clash signs good_orders good_order copy_needed done done_by may_change_places",
+    "flows": "Flow Flow.arrays Flow.statements forms run parted lost may_change_places rings again after",
+    "functions": "is_array is_mask element reshape transpose spread merge pack unpack cshift eoshift total product how_many "
+                 "any_of all_of maxloc minloc matmul",
+    "sharing": "offsets idle are_bases ring is_ring shared touched pairs_number twins_number",
+    "commons": "refusal layout across elements_across lengths storage unlike",
+    "storage": "Store Store.write Store.read Store.defined Store.copy run surely perhaps wrong_reads",
+    "arguments": "handed seated dummy_place dummy_element handed_on call_clash",
+}
 
 
 class Conventions(unittest.TestCase):
@@ -121,23 +226,43 @@ class Conventions(unittest.TestCase):
     def test_by_place_and_by_name(self):
         for function, given, told in CALLS:
             self.assertEqual(list(inspect.signature(function).parameters), list(given), function)
-            self.assertEqual(function(*given.values()), told, function)
+            placed, named = split(function, given)
+            self.assertEqual(function(*placed.values(), **named), told, function)
             self.assertEqual(function(**given), told, function)
             self.assertEqual(function(**dict(reversed(list(given.items())))), told, function)
-            if given:
-                first, *others = given
-                self.assertEqual(function(given[first], **{name: given[name] for name in others}), told, function)
+            if placed:
+                first, *others = placed
+                self.assertEqual(function(placed[first], **{name: given[name] for name in given if name != first}), told, function)
+
+    def test_by_name_alone(self):
+        for function, given, _ in CALLS:
+            placed, named = split(function, given)
+            is_method = inspect.ismethod(function) or inspect.isclass(function)
+            self.assertEqual(list(named), [] if is_method or function is flows.run else list(LEFT_OUT.get(function.__name__, {})), function)
+            if named:
+                with self.assertRaises(TypeError):
+                    function(*given.values())
 
     def test_of_what_is_left_out(self):
         self.assertEqual(SET.least(), 0)
         self.assertEqual(inspect.signature(NSet.least).parameters["low"].default, 0)
+        for module in (functions, storage):
+            for name, told in LEFT_OUT.items():
+                function = getattr(module, name, None)
+                if function is not None and function.__module__ == module.__name__:
+                    found = {name: one.default for name, one in inspect.signature(function).parameters.items() if one.kind is one.KEYWORD_ONLY}
+                    self.assertEqual(repr(found), repr(told))
+
+    def test_each_function_of_the_interface_is_called(self):
+        called = {(function.__module__, function.__qualname__) for function, _, _ in CALLS}
+        for module, names in INTERFACE.items():
+            for name in names.split():
+                self.assertIn((f"sectionwise.{module}", name), called)
+        self.assertEqual(len(called), sum(len(names.split()) for names in INTERFACE.values()))
 
     def test_kinds_of_what_is_told(self):
         for function, given, told in CALLS:
-            made = function(**given)
-            self.assertIs(type(made), type(told), function)
-            if type(told) is tuple:
-                self.assertEqual([type(thing) for thing in made], [type(thing) for thing in told], function)
+            self.assertEqual(kinds(function(**given)), kinds(told), function)
 
     def test_nothing_passed_in_is_changed(self):
         for function, given, told in CALLS:

@@ -11,7 +11,7 @@ class Examples(unittest.TestCase):
 
     def test_all(self):
         told = doctest.testfile(EXAMPLES, module_relative=False, encoding="utf-8")
-        self.assertGreater(told.attempted, 20)
+        self.assertGreater(told.attempted, 50)
         self.assertEqual(told.failed, 0)
 
 

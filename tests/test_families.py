@@ -128,6 +128,12 @@ class Sets(unittest.TestCase):
             (same_sequence, Family((7, 0), (6, 1), 5), Family((7, 0), (6, 1), -5), NSet([(1, 1, 1)])),
             (same_elements, Family((0, 0), (0, 1), -1), Family((0, 1), (0, 0), 1), ALWAYS),
             (same_elements, Family((0, 0), (1, 1), -1), Family((0, 1), (1, 0), 2), NSet([(2, 1, None)])),
+            # Alike as long as they have one element.
+            (same_elements, Family((0, 0), (0, 2), 4), Family((0, 0), (0, 1), 2), NSet([(0, 1, 1)])),
+            (same_sequence, Family((0, 0), (0, 2), 4), Family((0, 0), (0, 1), 2), NSet([(0, 1, 1)])),
+            (same_sequence, Family((7, 0), (6, 1), 5), Family((7, 0), (8, -1), -5), NSet([(0, 1, 5)])),
+            (same_elements, Family((7, 0), (6, 1), 5), Family((7, 0), (8, -1), -5), NSet([(0, 1, 5)])),
+            (inside, Family((0, 0), (0, 1), 1), Family((0, 0), (12, 2), 12), only(0)),
             (inside, Family((0, 0), (0, 1), 4), Family((0, 0), (0, 1), 2), ALWAYS),
             (inside, Family((0, 0), (0, 1), 2), Family((0, 0), (0, 1), 4), NSet([(0, 1, 1)])),
             (inside, Family((0, 0), (0, 1), 5), Family((10, 0), (0, 0), -5), NSet([(0, 1, 14)])),

@@ -2,7 +2,9 @@
 
 import sectionwise.errors as errors
 from sectionwise.families import Family
+from sectionwise.flows import Flow
 from sectionwise.nsets import NSet, complement
+from sectionwise.storage import Store
 
 WITH_PART = [
     errors.InvalidTriplet, errors.InvalidSection, errors.InvalidFamily, errors.InvalidLayout, errors.InvalidArgument,
@@ -47,6 +49,8 @@ def values():
         errors.InvalidProgram((0,), "row"), errors.LimitExceeded(5000), ValueError("x"),
         NSet, NSet([]), NSet([(0, 1, None)]), complement(NSet([(3, 97, None)])), NSet([(0, 98, 7), (5, 99, None)]),
         Family, Family((1, 0), (0, 1), 1), Family((0, 0), (5, 0), -2),
+        Flow, Flow({"a": ((1, 4),)}, []), Flow({"b": ((1, 2),)}, [("fill", "b", (1,), 5, None)]),
+        Store, Store(3, []), Store(3, [("a", "integer", 0, 3)]),
     ]
     nested = []
     nested.append(nested)
